@@ -1,0 +1,62 @@
+// Package deadline: tasks that come again and again, and whether each is done in time: see DOC.md.
+package deadline
+
+// Errno is what a call answers: OK or the reason for a refusal.
+type Errno int
+
+const (
+	OK       Errno = 0
+	ErrLong  Errno = 1 // a string above its bound
+	ErrSet   Errno = 2 // no set
+	ErrTask  Errno = 3 // a task whose numbers may not be
+	ErrArg   Errno = 4 // a number that may not be
+	ErrHeavy Errno = 5 // more work than time, in the long run
+	ErrLate  Errno = 6 // not feasible
+	ErrFits  Errno = 7 // feasible
+	ErrEvent Errno = 8 // no events
+)
+
+// maxAt is the latest time that may be asked for.
+const maxAt = 10000
+
+// Check tells whether a text is a set (P3).
+func Check(set string) (Errno, int) {
+	r := readSet(set)
+	return r.err, r.place
+}
+
+// Demand tells what is wanted by a time (P4).
+func Demand(set string, t int) (int, Errno) {
+	r := readSet(set)
+	if r.err != OK {
+		return 0, r.err
+	}
+	if t < 0 || t > maxAt {
+		return 0, ErrArg
+	}
+	return wantedBy(r.tasks, t), OK
+}
+
+// Busy tells how long there is work to do (P5). Not built yet.
+func Busy(set string) (int, Errno) { return 0, OK }
+
+// Test looks at check points, as many as it may (P6). Not built yet.
+func Test(set string, budget int) (int, int, Errno) { return 0, 0, OK }
+
+// Level looks at few check points of each task (P7). Not built yet.
+func Level(set string, k int) (bool, Errno) { return false, OK }
+
+// Refute tells a time by which too much is wanted (P8). Not built yet.
+func Refute(set string) (int, Errno) { return 0, OK }
+
+// Room tells how much work a task may have (P9). Not built yet.
+func Room(set string, task int) (int, Errno) { return 0, OK }
+
+// Run plays events for a feasible set (P10). Not built yet.
+func Run(set string, events string) (string, Errno) { return "", OK }
+
+// Free plays events for any set (P10). Not built yet.
+func Free(set string, events string) (string, Errno) { return "", OK }
+
+// Break tells events at which a job is late (P11). Not built yet.
+func Break(set string) (string, Errno) { return "", OK }
