@@ -37,20 +37,78 @@ func Demand(set string, t int) (int, Errno) {
 	return wantedBy(r.tasks, t), OK
 }
 
-// Busy tells how long there is work to do (P5). Not built yet.
-func Busy(set string) (int, Errno) { return 0, OK }
+// Busy tells how long there is work to do (P5).
+func Busy(set string) (int, Errno) {
+	r := readSet(set)
+	if r.err != OK {
+		return 0, r.err
+	}
+	if isHeavy(r.tasks) {
+		return 0, ErrHeavy
+	}
+	return busyTime(r.tasks), OK
+}
 
-// Test looks at check points, as many as it may (P6). Not built yet.
-func Test(set string, budget int) (int, int, Errno) { return 0, 0, OK }
+// Test looks at check points, as many as it may (P6).
+func Test(set string, budget int) (int, int, Errno) {
+	r := readSet(set)
+	if r.err != OK {
+		return 0, 0, r.err
+	}
+	if budget < 0 {
+		return 0, 0, ErrArg
+	}
+	if isHeavy(r.tasks) {
+		return verdictLate, 0, OK
+	}
+	end := busyTime(r.tasks)
+	verdict, late := lookAtPoints(r.tasks, end, budget)
+	return verdict, late, OK
+}
 
-// Level looks at few check points of each task (P7). Not built yet.
-func Level(set string, k int) (bool, Errno) { return false, OK }
+// Level looks at few check points of each task (P7).
+func Level(set string, k int) (bool, Errno) {
+	r := readSet(set)
+	if r.err != OK {
+		return false, r.err
+	}
+	if k < 1 || k > maxLevel {
+		return false, ErrArg
+	}
+	if isHeavy(r.tasks) {
+		return false, OK
+	}
+	return passesLevel(r.tasks, k), OK
+}
 
-// Refute tells a time by which too much is wanted (P8). Not built yet.
-func Refute(set string) (int, Errno) { return 0, OK }
+// Refute tells a time by which too much is wanted (P8).
+func Refute(set string) (int, Errno) {
+	r := readSet(set)
+	if r.err != OK {
+		return 0, r.err
+	}
+	late := firstLate(r.tasks)
+	if late == 0 {
+		return 0, ErrFits
+	}
+	return late, OK
+}
 
-// Room tells how much work a task may have (P9). Not built yet.
-func Room(set string, task int) (int, Errno) { return 0, OK }
+// Room tells how much work a task may have (P9).
+func Room(set string, task int) (int, Errno) {
+	r := readSet(set)
+	if r.err != OK {
+		return 0, r.err
+	}
+	if task < 0 || task >= len(r.tasks) {
+		return 0, ErrArg
+	}
+	rest := without(r.tasks, task)
+	if firstLate(rest) > 0 {
+		return 0, ErrLate
+	}
+	return mostWork(r.tasks, task, r.tasks[task].deadline), OK
+}
 
 // Run plays events for a feasible set (P10). Not built yet.
 func Run(set string, events string) (string, Errno) { return "", OK }

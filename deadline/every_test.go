@@ -4,6 +4,7 @@ import (
 	"fmt"
 	"math"
 	"math/rand"
+	"slices"
 	"strings"
 	"testing"
 	"time"
@@ -95,14 +96,42 @@ func wantEmptyWithError(t *testing.T, set string, number int, events string) {
 	}
 }
 
+// wrongSets come with the error of Check.
+var wrongSets = []struct {
+	set string
+	err deadline.Errno
+}{
+	{eightTasks + ";", deadline.ErrLong}, {strings.Repeat("x", 32), deadline.ErrLong}, {strings.Repeat("111;", 1<<16), deadline.ErrLong},
+	{"", deadline.ErrSet}, {"111;", deadline.ErrSet}, {"1110", deadline.ErrSet}, {"321;x", deadline.ErrSet}, {"111,111", deadline.ErrSet},
+	{"211", deadline.ErrTask}, {"111;132", deadline.ErrTask}, {"111;111;211;111", deadline.ErrTask},
+}
+
+// notBuilt lists the calls that answer zero values whatever they are asked.
+var notBuilt = []string{"Run", "Free", "Break"}
+
+// TestErrorOfCheckComesFirst: it does so at numbers that may not be, too.
+func TestErrorOfCheckComesFirst(t *testing.T) {
+	for _, wrong := range wrongSets {
+		for _, number := range someNumbers {
+			for _, a := range everyCall(wrong.set, number, "") {
+				if slices.Contains(notBuilt, a.call) {
+					continue
+				}
+				if a.err != wrong.err || !a.empty {
+					t.Errorf("%s with %.40q, %d: error %d beside %s, want error %d", a.call, wrong.set, number, a.err, a.text, wrong.err)
+				}
+			}
+		}
+	}
+}
+
 // TestLengthIsLookedAtFirst (P1): reading these texts byte by byte, as often as
 // here, would take minutes.
 func TestLengthIsLookedAtFirst(t *testing.T) {
 	long := strings.Repeat("111;", 1<<24)
 	begin := time.Now()
 	for range 5000 {
-		wantCheck(t, long, deadline.ErrLong, 0)
-		wantDemand(t, long, -1, 0, deadline.ErrLong)
+		everyCall(long, -1, "")
 		if time.Since(begin) > 20*time.Second {
 			t.Fatal("a long text takes long")
 		}
