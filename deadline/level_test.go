@@ -61,6 +61,9 @@ func TestLevelNumbers(t *testing.T) {
 
 func TestLevelAgainstSlowLevel(t *testing.T) {
 	for _, one := range everyTask() {
+		for k := 1; k <= 20; k++ {
+			wantLevel(t, one.text(), k, slowLevel(one.text(), k), deadline.OK)
+		}
 		for _, other := range everyTask() {
 			set := one.text() + ";" + other.text()
 			for k := 1; k <= 2; k++ {
