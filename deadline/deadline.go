@@ -110,11 +110,36 @@ func Room(set string, task int) (int, Errno) {
 	return mostWork(r.tasks, task, r.tasks[task].deadline), OK
 }
 
-// Run plays events for a feasible set (P10). Not built yet.
-func Run(set string, events string) (string, Errno) { return "", OK }
+// Run plays events for a feasible set (P10).
+func Run(set string, events string) (string, Errno) {
+	q := readQuestion(set, events)
+	if q.err != OK {
+		return "", q.err
+	}
+	if firstLate(q.tasks) > 0 {
+		return "", ErrLate
+	}
+	return traceOf(q.tasks, q.events), OK
+}
 
-// Free plays events for any set (P10). Not built yet.
-func Free(set string, events string) (string, Errno) { return "", OK }
+// Free plays events for any set (P10).
+func Free(set string, events string) (string, Errno) {
+	q := readQuestion(set, events)
+	if q.err != OK {
+		return "", q.err
+	}
+	return traceOf(q.tasks, q.events), OK
+}
 
-// Break tells events at which a job is late (P11). Not built yet.
-func Break(set string) (string, Errno) { return "", OK }
+// Break tells events at which a job is late (P11).
+func Break(set string) (string, Errno) {
+	r := readSet(set)
+	if r.err != OK {
+		return "", r.err
+	}
+	late := firstLate(r.tasks)
+	if late == 0 {
+		return "", ErrFits
+	}
+	return eventsUntil(r.tasks, late), OK
+}

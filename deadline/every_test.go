@@ -4,7 +4,6 @@ import (
 	"fmt"
 	"math"
 	"math/rand"
-	"slices"
 	"strings"
 	"testing"
 	"time"
@@ -81,6 +80,7 @@ func TestEveryCallEndsAtRandomTexts(t *testing.T) {
 		random.Read(set)
 		wantEmptyWithError(t, string(set), int(random.Uint64()), string(set))
 		wantEmptyWithError(t, nearlySet(random), random.Intn(11000)-500, string(set))
+		wantEmptyWithError(t, nearlySet(random), random.Intn(30)-5, nearlyEvents(random))
 	}
 }
 
@@ -106,17 +106,13 @@ var wrongSets = []struct {
 	{"211", deadline.ErrTask}, {"111;132", deadline.ErrTask}, {"111;111;211;111", deadline.ErrTask},
 }
 
-// notBuilt lists the calls that answer zero values whatever they are asked.
-var notBuilt = []string{"Run", "Free", "Break"}
-
-// TestErrorOfCheckComesFirst: it does so at numbers that may not be, too.
+// TestErrorOfCheckComesFirst: it does so at numbers that may not be and at
+// texts that are no events, too.
 func TestErrorOfCheckComesFirst(t *testing.T) {
 	for _, wrong := range wrongSets {
-		for _, number := range someNumbers {
-			for _, a := range everyCall(wrong.set, number, "") {
-				if slices.Contains(notBuilt, a.call) {
-					continue
-				}
+		for i, number := range someNumbers {
+			events := []string{"", "a1.", "x"}[i%3]
+			for _, a := range everyCall(wrong.set, number, events) {
 				if a.err != wrong.err || !a.empty {
 					t.Errorf("%s with %.40q, %d: error %d beside %s, want error %d", a.call, wrong.set, number, a.err, a.text, wrong.err)
 				}
@@ -132,6 +128,9 @@ func TestLengthIsLookedAtFirst(t *testing.T) {
 	begin := time.Now()
 	for range 5000 {
 		everyCall(long, -1, "")
+		everyCall("x", -1, long)
+		wantBoth(t, "111", long, deadline.ErrLong)
+		wantBoth(t, long, long, deadline.ErrLong)
 		if time.Since(begin) > 20*time.Second {
 			t.Fatal("a long text takes long")
 		}

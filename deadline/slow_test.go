@@ -3,6 +3,7 @@ package deadline_test
 import (
 	"math/big"
 	"math/rand"
+	"regexp"
 	"sort"
 	"strings"
 )
@@ -156,6 +157,96 @@ func slowFirst(list []slowTask) int {
 		}
 	}
 	return 0
+}
+
+// slowEvents tells whether a text is events for a set of so many tasks.
+func slowEvents(text string, count int) bool {
+	last := string("abcdefgh"[count-1])
+	return regexp.MustCompile(`\A(\.|[a-` + last + `][0-9])*\z`).MatchString(text)
+}
+
+type slowJob struct{ task, came, deadline, left int }
+
+// slowTrace keeps every job that was let in, the done ones too.
+func slowTrace(set, events string) string {
+	tasks := tasksOf(set)
+	var jobs []*slowJob
+	now, trace := 0, ""
+	for events != "" {
+		if events[0] != '.' {
+			number, wants := int(events[0]-'a'), int(events[1]-'0')
+			events = events[2:]
+			trace += slowCome(tasks, &jobs, number, now, wants)
+			continue
+		}
+		events = events[1:]
+		trace += slowWork(jobs)
+		now++
+		for _, job := range jobs {
+			if job.left > 0 && job.deadline == now {
+				return trace + "*"
+			}
+		}
+	}
+	return trace
+}
+
+func slowCome(tasks []slowTask, jobs *[]*slowJob, number, now, wants int) string {
+	one := tasks[number]
+	if wants == 0 || wants > one.c {
+		return "?"
+	}
+	for _, job := range *jobs {
+		if job.task == number && now-job.came < one.t {
+			return "!"
+		}
+	}
+	*jobs = append(*jobs, &slowJob{number, now, now + one.d, wants})
+	return "+"
+}
+
+// slowWork works for a unit at the first of the jobs, laid in order.
+func slowWork(jobs []*slowJob) string {
+	var open []*slowJob
+	for _, job := range jobs {
+		if job.left > 0 {
+			open = append(open, job)
+		}
+	}
+	if len(open) == 0 {
+		return "-"
+	}
+	sort.Slice(open, func(i, j int) bool {
+		if open[i].deadline != open[j].deadline {
+			return open[i].deadline < open[j].deadline
+		}
+		return open[i].task < open[j].task
+	})
+	open[0].left--
+	if open[0].left == 0 {
+		return string("ABCDEFGH"[open[0].task])
+	}
+	return string("abcdefgh"[open[0].task])
+}
+
+// someJobs draws events for a set: most jobs want what they may, and come at
+// times at which they may or nearly so.
+func someJobs(random *rand.Rand, set string, length int) string {
+	tasks := tasksOf(set)
+	text := ""
+	for range length {
+		if random.Intn(5) < 2 {
+			text += "."
+			continue
+		}
+		number := random.Intn(len(tasks))
+		wants := tasks[number].c
+		if random.Intn(4) == 0 {
+			wants = random.Intn(min(9, wants+1) + 1)
+		}
+		text += string([]byte{byte('a' + number), byte('0' + wants)})
+	}
+	return text
 }
 
 // fullSet draws a set with as much work as is not heavy, or nearly so, and now
