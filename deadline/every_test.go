@@ -125,12 +125,13 @@ func TestErrorOfCheckComesFirst(t *testing.T) {
 // here, would take minutes.
 func TestLengthIsLookedAtFirst(t *testing.T) {
 	long := strings.Repeat("111;", 1<<24)
+	longEvents := strings.Repeat("a1..", 1<<24)
 	begin := time.Now()
 	for range 5000 {
 		everyCall(long, -1, "")
-		everyCall("x", -1, long)
-		wantBoth(t, "111", long, deadline.ErrLong)
-		wantBoth(t, long, long, deadline.ErrLong)
+		everyCall("x", -1, longEvents)
+		wantBoth(t, "111", longEvents, deadline.ErrLong)
+		wantBoth(t, long, longEvents, deadline.ErrLong)
 		if time.Since(begin) > 20*time.Second {
 			t.Fatal("a long text takes long")
 		}
